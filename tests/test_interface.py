@@ -2,9 +2,13 @@ import importlib
 import inspect
 import unittest
 
+from twoalone.bars import bar, bar_fault
 from twoalone.errors import NoRounds
+from twoalone.places import place
+from twoalone.protocols import protocol_fault, tell
 from twoalone.tasks import Task, joint, near, swapped
 from twoalone.weavings import known, weavings
+from twoalone.webs import far, lots, walk
 
 PLACE, NAME = inspect.Parameter.POSITIONAL_OR_KEYWORD, inspect.Parameter.KEYWORD_ONLY
 FUNCTIONS = {
@@ -19,7 +23,23 @@ FUNCTIONS = {
         "known": [("inputs", PLACE), ("weaving", PLACE), ("rounds", NAME)],
         "weavings": [("rounds", PLACE)],
     },
+    "places": {"place": [("known", PLACE), ("hand", PLACE)]},
+    "protocols": {
+        "tell": [("task", PLACE), ("protocol", PLACE), ("inputs", PLACE), ("weaving", PLACE)],
+        "protocol_fault": [("task", PLACE), ("thing", PLACE)],
+    },
+    "webs": {
+        "lots": [("task", PLACE), ("pair", PLACE)],
+        "far": [("task", PLACE), ("pair", PLACE), ("x", PLACE), ("y", PLACE)],
+        "walk": [("task", PLACE), ("pair", PLACE), ("x", PLACE), ("y", PLACE), ("many", NAME)],
+    },
+    "bars": {
+        "bar": [("task", PLACE), ("rounds", NAME)],
+        "bar_fault": [("task", PLACE), ("thing", PLACE), ("rounds", NAME)],
+    },
 }
+# What may be left out, and then is None.
+LEFT_OUT = [("webs", "walk", "many"), ("bars", "bar", "rounds"), ("bars", "bar_fault", "rounds")]
 CLASSES = {
     "errors": {
         **{name: {} for name in [
@@ -51,8 +71,9 @@ class Interface(unittest.TestCase):
                     self.assertTrue(inspect.isfunction(function))
                     self.assertEqual(function.__module__, f"twoalone.{module}")
                     self.assertEqual(parameters(function), want)
-                    defaults = [each.default for each in inspect.signature(function).parameters.values()]
-                    self.assertTrue(all(default is inspect.Parameter.empty for default in defaults))
+                    for each in inspect.signature(function).parameters.values():
+                        left_out = (module, name, each.name) in LEFT_OUT
+                        self.assertIs(each.default, None if left_out else inspect.Parameter.empty)
 
     def test_classes_stand_in_their_files_with_their_own_methods(self):
         for module, classes in CLASSES.items():
@@ -76,6 +97,27 @@ class Interface(unittest.TestCase):
         self.assertEqual(joint(other=near(n=2), task=task), joint(task, near(2)))
         self.assertEqual(weavings(rounds=1), weavings(1))
         self.assertEqual(known(weaving=[0, 0], inputs=(3, 4), rounds=1), known((3, 4), [0, 0], rounds=1))
+
+    def test_places_webs_protocols_and_bars_by_place_and_by_name(self):
+        task, protocol = near(1), (0, [[0, 1], [0, 1]], {(a, b): [a, b] for a in (0, 1) for b in (0, 1)})
+        self.assertEqual(place(hand=1, known=(7, 4)), place((7, 4), 1))
+        self.assertEqual(tell(weaving=[], inputs=(0, 1), protocol=protocol, task=task), (0, 1))
+        self.assertIsNone(protocol_fault(thing=protocol, task=task))
+        self.assertIsNone(protocol_fault(task, thing=protocol))
+        self.assertEqual(lots(pair=(0, 1), task=task), lots(task, (0, 1)))
+        self.assertEqual((far(y=1, x=0, pair=(0, 1), task=task), far(task, (0, 1), 0, 1)), (1, 1))
+        self.assertEqual(walk(y=1, many=3, x=0, pair=(0, 1), task=task), walk(task, (0, 1), 0, 1, many=3))
+        self.assertEqual(bar(rounds=1, task=near(4)), bar(near(4), rounds=1))
+        self.assertIsNone(bar_fault(thing=bar(near(4), rounds=1), rounds=1, task=near(4)))
+        self.assertEqual(bar_fault(near(4), thing=None), ("form",))
+
+    def test_many_and_rounds_by_their_names_alone(self):
+        with self.assertRaises(TypeError):
+            walk(near(1), (0, 1), 0, 1, 3)
+        with self.assertRaises(TypeError):
+            bar(near(4), 1)
+        with self.assertRaises(TypeError):
+            bar_fault(near(4), None, 1)
 
     def test_rounds_of_known_by_its_name_alone(self):
         with self.assertRaises(TypeError):

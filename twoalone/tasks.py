@@ -86,6 +86,11 @@ class Task:
         return sorted(self.both)
 
 
+def is_pair(task, thing):
+    """Whether this is a pair of inputs of the task that comes."""
+    return is_input_pair(thing, task.alone) and thing in task.both
+
+
 def swapped(task):
     """Tell the task with the hands exchanged."""
     alone = [task.alone[1], task.alone[0]]
