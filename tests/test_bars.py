@@ -2,16 +2,12 @@ import copy
 import unittest
 from unittest import mock
 
-from tests.things import choices, odd_things, tasks
+from tests.things import choices, no_rounds, odd_things, row_task, tasks
 from twoalone.bars import bar, bar_fault
 from twoalone.errors import NoRounds
 from twoalone.tasks import Task, agreement, apart, joint, near, swapped
 from twoalone.webs import far
 
-NO_ROUNDS = [
-    *[thing for thing in odd_things() if thing is not None],
-    -1, 6, 7, 10 ** 59, -(10 ** 59), [0], (0,), {0: 0}, "1", 2.0,
-]
 PAIR = (0, 1)
 
 
@@ -45,12 +41,6 @@ def forked_bar():
     each = [(hand, x, x) for hand in (0, 1) for x in range(3)]
     leaves = [("apart", (0, 1), each), ("apart", (0, 0), ones)]
     return ("choose", 1, 1, [("choose", 1, 0, [("choose", 0, 0, leaves)])])
-
-
-def row_task(many, alone0=None, alone1=None):
-    """One input each; a web in one row of ties, from hand 0's 0 to hand 1's last; many ties, an odd number."""
-    steps = [(at // 2 + at % 2, at // 2) for at in range(many)]
-    return Task([[alone0 or [0]], [alone1 or [many // 2]]], {(0, 0): steps})
 
 
 def row_bar(many):
@@ -160,7 +150,11 @@ class Bar(unittest.TestCase):
         self.assertIsNone(bar(Task(alone, both)))
 
     def test_lists_of_the_askers_own(self):
-        for task, rounds in [(forked(), None), (agreement(), None), (near(4), 1), (crossed(), 0), (crossed(), None)]:
+        # In the bar of the last one two leaves have the same marks.
+        alike = Task([[[0]], [[1, 2]]], {(0, 0): [(0, 0), (1, 1), (2, 2)]})
+        for task, rounds in [
+            (forked(), None), (agreement(), None), (near(4), 1), (crossed(), 0), (crossed(), None), (alike, None),
+        ]:
             before = copy.deepcopy(task)
             first = bar(task, rounds=rounds)
             want = copy.deepcopy(first)
@@ -173,7 +167,7 @@ class Bar(unittest.TestCase):
             self.assertEqual(list(task.both), list(before.both))
 
     def test_a_number_of_rounds_that_is_none(self):
-        for rounds in NO_ROUNDS:
+        for rounds in no_rounds():
             with self.subTest(rounds=repr(rounds)), self.assertRaises(NoRounds):
                 bar(near(3), rounds=rounds)
 
@@ -287,20 +281,60 @@ class BarFault(unittest.TestCase):
         self.fault(forked(), ("choose", 0, 0, [("apart", (0, 0), []), ("apart", (0, 1), leaves[0][2])]), ("form",))
         self.fault(forked(), ("choose", 0, 0, [leaves[0], ("apart", (0, 2), leaves[0][2])]), ("form",))
 
-    def test_deeper_than_python_goes(self):
-        tree, broken = of_agreement(), None
-        for count in range(20000):
-            tree, broken = ("choose", 0, 0, [tree]), ("choose", 0, 0, [broken])
-        self.assertEqual(bar_fault(agreement(), tree), ("choose", [0]))
-        self.assertEqual(bar_fault(agreement(), broken), ("form",))
+    def test_form_wherever_it_breaks_behind_another_fault(self):
+        task = Task([[[0, 1, 2]], [[0], [1]]], {(0, b): [(0, 0), (1, 1), (2, 2)] for b in (0, 1)})
+        leaf = ("apart", (0, 0), [(hand, x, 0) for hand in (0, 1) for x in range(3)])
+        twice = ("choose", 0, 0, [leaf, leaf, leaf])
+        self.fault(task, ("choose", 0, 0, [twice, leaf, leaf]), ("choose", [0]))
+        self.fault(task, ("choose", 0, 0, [leaf, leaf, leaf]), ("apart", [0]))
+        for at in range(3):
+            broken = [leaf, leaf, leaf]
+            broken[at] = None
+            for first in range(3):
+                trees = [twice, twice, twice]
+                trees[first] = ("choose", 0, 0, broken)
+                self.fault(task, ("choose", 0, 0, trees), ("form",))
+                self.fault(task, ("choose", 1, 0, [("choose", 0, 0, trees)]), ("form",))
+                trees[first] = ("choose", 1, 1, [("choose", 0, 0, broken)])
+                self.fault(task, ("choose", 0, 0, trees), ("form",))
+            self.fault(task, ("choose", 0, 0, broken), ("form",))
 
-    def test_a_thing_that_holds_itself(self):
+    def test_deeper_than_python_goes(self):
+        for times in (20000, 100001, 400000):
+            tree, broken = of_agreement(), None
+            for count in range(times):
+                tree, broken = ("choose", 0, 0, [tree]), ("choose", 0, 0, [broken])
+            self.assertEqual(bar_fault(agreement(), tree), ("choose", [0]))
+            self.assertEqual(bar_fault(agreement(), tree, rounds=2), ("choose", [0]))
+            self.assertEqual(bar_fault(agreement(), broken), ("form",))
+
+    def test_deep_on_one_side(self):
+        right = deep = forked_bar()[3][0][3][0][3][0]
+        for count in range(150000):
+            deep = ("choose", 0, 0, [right, deep] if count % 2 else [deep, right])
+        far_down = ("choose", 1, 1, [deep])
+        self.assertEqual(bar_fault(forked(), far_down), ("choose", [0, 1]))
+        self.assertEqual(bar_fault(forked(), ("choose", 1, 0, [far_down])), ("choose", [0, 0, 1]))
+        self.assertEqual(bar_fault(forked(), ("choose", 0, 0, [far_down, None])), ("form",))
+        self.assertEqual(bar_fault(forked(), ("choose", 0, 0, [None, far_down])), ("form",))
+
+    def test_a_thing_that_holds_itself_is_answered(self):
         trees = []
         trees.append(("choose", 0, 0, trees))
-        self.assertEqual(bar_fault(agreement(), trees[0]), ("form",))
+        self.assertEqual(bar_fault(agreement(), trees[0]), ("choose", [0]))
         leaves = []
         leaves.extend([("choose", 0, 0, leaves), ("choose", 0, 0, leaves)])
+        self.assertEqual(bar_fault(forked(), leaves[0]), ("choose", [0]))
+        leaves[1] = None
         self.assertEqual(bar_fault(forked(), leaves[0]), ("form",))
+
+    def test_a_thing_that_holds_another_one_often(self):
+        task = Task([[[0, 1], [1]], [[0], [1]]], {(0, 0): [(0, 0)], (1, 1): [(1, 1)]})
+        tree, broken = ("apart", (1, 1), [(0, 1, 0), (1, 1, 0)]), None
+        for count in range(100):
+            tree, broken = ("choose", 0, 0, [tree, tree]), ("choose", 0, 0, [broken, broken])
+        self.assertEqual(bar_fault(task, tree), ("choose", [0]))
+        self.assertEqual(bar_fault(task, broken), ("form",))
 
     def test_an_input_chosen_twice(self):
         task = agreement()
@@ -412,7 +446,7 @@ class BarFault(unittest.TestCase):
         self.fault(apart(2), bar(agreement()), ("form",))
 
     def test_a_number_of_rounds_that_is_none_ahead_of_all(self):
-        for rounds in NO_ROUNDS:
+        for rounds in no_rounds():
             for thing in [None, [], of_agreement(), bar(near(4), rounds=1)]:
                 with self.subTest(rounds=repr(rounds)), self.assertRaises(NoRounds):
                     bar_fault(agreement(), thing, rounds=rounds)

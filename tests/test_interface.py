@@ -3,10 +3,14 @@ import inspect
 import unittest
 
 from twoalone.bars import bar, bar_fault
+from twoalone.boxes import boxed, boxed_bar_fault, boxed_fault, tell_boxed
 from twoalone.errors import NoRounds
+from twoalone.makes import made_fault, made_of, made_protocol
 from twoalone.places import place
 from twoalone.protocols import protocol_fault, tell
+from twoalone.rounds import least_rounds, need, protocol
 from twoalone.tasks import Task, joint, near, swapped
+from twoalone.texts import read_task, task_text
 from twoalone.weavings import known, weavings
 from twoalone.webs import far, lots, walk
 
@@ -33,13 +37,33 @@ FUNCTIONS = {
         "far": [("task", PLACE), ("pair", PLACE), ("x", PLACE), ("y", PLACE)],
         "walk": [("task", PLACE), ("pair", PLACE), ("x", PLACE), ("y", PLACE), ("many", NAME)],
     },
+    "rounds": {
+        "need": [("task", PLACE), ("choice", PLACE)],
+        "least_rounds": [("task", PLACE)],
+        "protocol": [("task", PLACE), ("rounds", NAME)],
+    },
     "bars": {
         "bar": [("task", PLACE), ("rounds", NAME)],
         "bar_fault": [("task", PLACE), ("thing", PLACE), ("rounds", NAME)],
     },
+    "boxes": {
+        "tell_boxed": [("task", PLACE), ("boxed", PLACE), ("inputs", PLACE), ("weaving", PLACE)],
+        "boxed": [("task", PLACE)],
+        "boxed_fault": [("task", PLACE), ("thing", PLACE)],
+        "boxed_bar_fault": [("task", PLACE), ("thing", PLACE)],
+    },
+    "makes": {
+        "made_of": [("task", PLACE), ("other", PLACE)],
+        "made_fault": [("task", PLACE), ("other", PLACE), ("thing", PLACE)],
+        "made_protocol": [("task", PLACE), ("other", PLACE), ("thing", PLACE), ("protocol", PLACE)],
+    },
+    "texts": {"task_text": [("task", PLACE)], "read_task": [("text", PLACE)]},
 }
 # What may be left out, and then is None.
-LEFT_OUT = [("webs", "walk", "many"), ("bars", "bar", "rounds"), ("bars", "bar_fault", "rounds")]
+LEFT_OUT = [
+    ("webs", "walk", "many"), ("bars", "bar", "rounds"), ("bars", "bar_fault", "rounds"),
+    ("rounds", "protocol", "rounds"),
+]
 CLASSES = {
     "errors": {
         **{name: {} for name in [
@@ -110,6 +134,37 @@ class Interface(unittest.TestCase):
         self.assertEqual(bar(rounds=1, task=near(4)), bar(near(4), rounds=1))
         self.assertIsNone(bar_fault(thing=bar(near(4), rounds=1), rounds=1, task=near(4)))
         self.assertEqual(bar_fault(near(4), thing=None), ("form",))
+
+    def test_rounds_boxes_makes_and_texts_by_place_and_by_name(self):
+        task = near(1)
+        self.assertEqual((need(choice=[[0, 1], [0, 1]], task=task), need(task, [[0, 1], [0, 1]])), (1, 1))
+        self.assertEqual((least_rounds(task=near(3)), least_rounds(near(3))), (1, 1))
+        self.assertEqual(protocol(rounds=2, task=near(4)), protocol(near(4), rounds=2))
+        word, told = boxed(task=task)
+        self.assertEqual((word, told), boxed(task))
+        outputs = tell_boxed(weaving=[0, 0, 1, 1, 1], inputs=(0, 1), boxed=told, task=task)
+        self.assertEqual(outputs, tell_boxed(task, told, (0, 1), [0, 0, 1, 1, 1]))
+        self.assertIsNone(boxed_fault(thing=told, task=task))
+        self.assertIsNone(boxed_fault(task, told))
+        self.assertEqual(boxed_bar_fault(thing=told, task=task), ("form",))
+        self.assertEqual(boxed_bar_fault(task, told), ("form",))
+        thing = made_of(other=near(3), task=task)
+        self.assertEqual(thing, made_of(task, near(3)))
+        self.assertIsNone(made_fault(thing=thing, other=near(3), task=task))
+        self.assertIsNone(made_fault(task, near(3), thing))
+        made = made_protocol(protocol=protocol(near(3)), thing=thing, other=near(3), task=task)
+        self.assertEqual(made, made_protocol(task, near(3), thing, protocol(near(3))))
+        self.assertEqual(read_task(text=task_text(task=task)), read_task(task_text(task)))
+
+    def test_rounds_of_protocol_by_its_name_alone(self):
+        with self.assertRaises(TypeError):
+            protocol(near(4), 2)
+
+    def test_each_module_stands_for_itself(self):
+        for module in [*FUNCTIONS, *CLASSES]:
+            there = importlib.import_module(f"twoalone.{module}")
+            for name in [*FUNCTIONS.get(module, {}), *CLASSES.get(module, {})]:
+                self.assertEqual(getattr(there, name).__name__, name)
 
     def test_many_and_rounds_by_their_names_alone(self):
         with self.assertRaises(TypeError):

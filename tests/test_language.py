@@ -97,6 +97,27 @@ class Language(unittest.TestCase):
                     for alias in node.names:
                         self.assertIn(alias.name, defined)
 
+    def test_no_two_files_import_from_each_other(self):
+        needs = {}
+        for path in FILES:
+            froms = [node.module for node in nodes_of(path) if isinstance(node, ast.ImportFrom)]
+            needs[path.stem] = {module.split(".")[1] for module in froms}
+        while needs:
+            free = [name for name, modules in needs.items() if not modules & set(needs)]
+            self.assertNotEqual(free, [], needs)
+            for name in free:
+                del needs[name]
+
+    def test_what_is_imported_is_used_and_keeps_its_name(self):
+        for path in FILES:
+            nodes = list(nodes_of(path))
+            used = {node.id for node in nodes if isinstance(node, ast.Name) and isinstance(node.ctx, ast.Load)}
+            imported = {alias.name for node in nodes if isinstance(node, ast.ImportFrom) for alias in node.names}
+            self.assertEqual(imported - used, set(), path.name)
+            others = [node.arg for node in nodes if isinstance(node, ast.arg)]
+            others += [node.id for node in nodes if isinstance(node, ast.Name) and isinstance(node.ctx, ast.Store)]
+            self.assertEqual(imported & set(others), set(), path.name)
+
     def test_names(self):
         for path in FILES:
             for name, line in bound_in(path):

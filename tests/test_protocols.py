@@ -1,27 +1,12 @@
 import copy
 import unittest
 
-from tests.things import broken_off, choices, odd_things, tasks
+from tests.things import broken_off, choices, no_pairs, odd_things, sample, saw_nothing, tasks
 from twoalone.errors import NoInputs, NoProtocol, NoWeaving
 from twoalone.protocols import protocol_fault, tell
 from twoalone.tasks import Task, agreement, near
 from twoalone.weavings import known, weavings
 from twoalone.webs import walk
-
-NO_PAIRS = [
-    *odd_things(), 0, "00", (0,), (0, 0, 0), [0, 0], [0, 1], (-1, 0), (0, -1), (2, 0), (0, 3), (1, 1), (10 ** 59, 0),
-    (True, 0), (0, False), (0.0, 0), ("0", 0), (0, None), ([], 0), ({}, 0), ((0, 0), 0), {0: 0},
-]
-
-
-def sample():
-    """(1, 1) never comes."""
-    let = {
-        (1, 0): [(2, 1), (3, 1), (3, 4)],
-        (0, 0): [(0, 1), (0, 4), (5, 4)],
-        (0, 1): [(0, 6), (5, 6)],
-    }
-    return Task([[[0, 5], [2]], [[1, 4], [6]]], let)
 
 
 def of_one_round():
@@ -47,10 +32,6 @@ def by_choice(task, choice, rounds):
     for a, b in task.both:
         walks[a, b] = walk(task, (a, b), choice[0][a], choice[1][b], many=3 ** rounds)
     return None if None in walks.values() else (rounds, choice, walks)
-
-
-def saw_nothing(thing):
-    return not isinstance(thing, tuple) or (thing[1] is None and saw_nothing(thing[0]))
 
 
 def is_done(task, protocol, woven):
@@ -170,7 +151,7 @@ class Tell(unittest.TestCase):
                 tell(task, of_one_round(), (0, 0), [])
 
     def test_no_pair(self):
-        for inputs in NO_PAIRS:
+        for inputs in no_pairs():
             with self.subTest(inputs=repr(inputs)), self.assertRaises(NoInputs):
                 tell(sample(), of_one_round(), inputs, [])
 

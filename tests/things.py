@@ -54,3 +54,39 @@ def choices(task):
         for theirs in itertools.product(*task.alone[1]):
             told.append([list(ours), list(theirs)])
     return told
+
+
+def row_task(many, alone0=None, alone1=None):
+    """One input each; a web in one row of ties, from hand 0's 0 to hand 1's last; many ties, an odd number."""
+    steps = [(at // 2 + at % 2, at // 2) for at in range(many)]
+    return Task([[alone0 or [0]], [alone1 or [many // 2]]], {(0, 0): steps})
+
+
+def no_rounds():
+    """Things that are no number of rounds, nor None."""
+    return [
+        *[thing for thing in odd_things() if thing is not None],
+        -1, 6, 7, 10 ** 59, -(10 ** 59), [0], (0,), {0: 0}, "1", 2.0,
+    ]
+
+
+def sample():
+    """(1, 1) never comes."""
+    let = {
+        (1, 0): [(2, 1), (3, 1), (3, 4)],
+        (0, 0): [(0, 1), (0, 4), (5, 4)],
+        (0, 1): [(0, 6), (5, 6)],
+    }
+    return Task([[[0, 5], [2]], [[1, 4], [6]]], let)
+
+
+def no_pairs():
+    """Things that are no pair of inputs of the sample."""
+    return [
+        *odd_things(), 0, "00", (0,), (0, 0, 0), [0, 0], [0, 1], (-1, 0), (0, -1), (2, 0), (0, 3), (1, 1), (10 ** 59, 0),
+        (True, 0), (0, False), (0.0, 0), ("0", 0), (0, None), ([], 0), ({}, 0), ((0, 0), 0), {0: 0},
+    ]
+
+
+def saw_nothing(thing):
+    return not isinstance(thing, tuple) or (thing[1] is None and saw_nothing(thing[0]))

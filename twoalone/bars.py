@@ -1,7 +1,8 @@
 """Bars: trees that show why no choice of outputs has walks of so many ties.
 
 Within this file most is the greatest number of ties that a walk may have, None for any; a spot
-is (hand, input); a tree that is being grown has ("apart", pair) for its leaves, without marks.
+is (hand, input). A search grows a tree of ("choose", spot, trees) and ("apart", spot, spot),
+without marks; its spots may be anything that has to get an output.
 """
 
 from twoalone.checks import HANDS, is_hand, is_whole, is_whole_within
@@ -11,8 +12,8 @@ from twoalone.tasks import is_pair
 from twoalone.weavings import MOST_ROUNDS
 from twoalone.webs import distances, ties_of
 
-# Only a thing that holds itself goes as far down as this, and it has no end.
-MOST_DEPTH = 100000
+# A thing that holds itself has no end: behind so many trees of the right form the others are taken to have it, too.
+MOST_LOOKS = 3000000
 
 
 def most_ties(rounds):
@@ -38,79 +39,98 @@ def is_too_far(ties, most):
 
 
 class Search:
-    """Goes through the choices of a task, for one whose walks have no more than most ties."""
+    """Goes through the ways to choose an output at each spot, for one in which all bonds hold.
 
-    def __init__(self, task, away, most):
-        self.task = task
-        self.away = away
-        self.most = most
-        self.spots = [(hand, at) for hand in HANDS for at in range(task.inputs(hand))]
+    outputs has for each spot those to choose from; bonds has for each spot a list of
+    (other spot, fits), where fits has for an output here the outputs there that go with it.
+    """
+
+    def __init__(self, outputs, bonds):
+        self.outputs = outputs
+        self.bonds = bonds
 
     def begun(self):
         """Tell what goes_on tells, when nothing is chosen yet."""
-        return self.goes_on({}, {spot: {} for spot in self.spots})
+        return self.goes_on({}, {spot: {} for spot in self.outputs})
 
     def goes_on(self, chosen, barred):
         """Tell (choice, None, None), or (None, tree, used) where there is none.
 
-        chosen has the outputs by their spots; barred has for each spot the outputs that
-        something chosen is too far from, with the pair for which it is; used are the spots,
+        chosen has the outputs by their spots; barred has for each spot the outputs that go
+        with nothing of what is chosen at another spot, with that spot; used are the spots,
         of those chosen, that the tree leans on.
         """
-        if len(chosen) == len(self.spots):
+        if len(chosen) == len(self.outputs):
             return (chosen, None, None)
         spot = self.narrowest(chosen, barred)
         trees = []
         used = {}
-        for output in self.let_alone(spot):
+        for output in self.outputs[spot]:
             choice, tree, leans_on = self.tried(chosen, barred, spot, output)
             # A tree that does without this choice does alone, so the others need no look.
             if tree is None or spot not in leans_on:
                 return (choice, tree, leans_on)
             trees.append(tree)
             for other in leans_on:
-                used[other] = True
-        del used[spot]
-        return (None, ("choose", spot[0], spot[1], trees), used)
+                if other != spot:
+                    used[other] = True
+        return (None, ("choose", spot, trees), used)
 
     def tried(self, chosen, barred, spot, output):
         """Tell what goes_on tells, when this output is chosen here."""
-        pair = barred[spot].get(output)
-        if pair is not None:
-            return (None, ("apart", pair), {(0, pair[0]): True, (1, pair[1]): True})
+        other = barred[spot].get(output)
+        if other is not None:
+            return (None, ("apart", spot, other), {spot: True, other: True})
         return self.goes_on({**chosen, spot: output}, self.narrowed(chosen, barred, spot, output))
-
-    def let_alone(self, spot):
-        return self.task.alone[spot[0]][spot[1]]
 
     def narrowest(self, chosen, barred):
         """Tell the spot with the fewest outputs left to choose, so that dead ends show early."""
         rows = []
-        for spot in self.spots:
+        for spot, outputs in self.outputs.items():
             if spot not in chosen:
-                outputs = self.let_alone(spot)
                 rows.append((len(outputs) - len(barred[spot]), len(outputs), spot))
         return min(rows)[2]
 
     def narrowed(self, chosen, barred, spot, output):
         """Tell what is barred when this output is chosen here, too."""
-        told = dict(barred)
-        for pair in self.away:
-            ends = [(hand, pair[hand]) for hand in HANDS]
-            other = ends[1 - spot[0]]
-            if spot == ends[spot[0]] and other not in chosen:
-                told[other] = self.with_barred(told[other], pair, spot, output)
+        told = {at: barred[at] for at in barred}
+        for other, fits in self.bonds[spot]:
+            if other not in chosen:
+                told[other] = self.with_barred(told[other], other, fits.get(output, {}), spot)
         return told
 
-    def with_barred(self, row, pair, spot, output):
-        """Tell the outputs barred at the other end of the pair, when this one is chosen here."""
-        hand = 1 - spot[0]
+    def with_barred(self, row, other, fitting, spot):
+        """Tell the outputs barred at the other spot, when only the fitting ones go with what is chosen here."""
         told = dict(row)
-        for other in self.let_alone((hand, pair[hand])):
-            x, y = (output, other) if hand == 1 else (other, output)
-            if other not in told and is_too_far(self.away[pair][x].get((1, y)), self.most):
-                told[other] = pair
+        for output in self.outputs[other]:
+            if output not in fitting and output not in told:
+                told[output] = spot
         return told
+
+
+def near_enough(from_each, outputs, most):
+    """Tell for each output of hand 0 those of hand 1 that are no more than most ties from it."""
+    told = {}
+    for x, from_x in from_each.items():
+        told[x] = {y: True for y in outputs if not is_too_far(from_x.get((1, y)), most)}
+    return told
+
+
+def turned(fits, outputs):
+    """Tell the same fits, asked from the other hand, whose outputs these are."""
+    return {y: {x: True for x in fits if y in fits[x]} for y in outputs}
+
+
+def searched(task, away, most):
+    """Tell what a search tells for a choice of outputs let alone, no two of them too far from each other."""
+    outputs = {(hand, at): task.alone[hand][at] for hand in HANDS for at in range(task.inputs(hand))}
+    bonds = {spot: [] for spot in outputs}
+    for pair in task.both:
+        ours, theirs = (0, pair[0]), (1, pair[1])
+        fits = near_enough(away[pair], outputs[theirs], most)
+        bonds[ours].append((theirs, fits))
+        bonds[theirs].append((ours, turned(fits, outputs[theirs])))
+    return Search(outputs, bonds).begun()
 
 
 def marked(task, away, most, pair, x):
@@ -126,24 +146,27 @@ def marked(task, away, most, pair, x):
     return marks
 
 
-def written(task, away, most, tree, chosen):
-    """Tell the tree that was grown with the marks that its leaves need."""
+def written(task, away, most, tree, chosen, marks):
+    """Tell the tree that was grown with the marks that its leaves need; those found once are kept in marks."""
     if tree[0] == "apart":
-        pair = tree[1]
-        return ("apart", pair, marked(task, away, most, pair, chosen[(0, pair[0])]))
-    word, hand, at, trees = tree
+        ours, theirs = sorted(tree[1:])
+        pair, x = (ours[1], theirs[1]), chosen[ours]
+        if (pair, x) not in marks:
+            marks[(pair, x)] = marked(task, away, most, pair, x)
+        return ("apart", pair, list(marks[(pair, x)]))
+    hand, at = tree[1]
     told = []
-    for output, each in zip(task.alone[hand][at], trees):
-        told.append(written(task, away, most, each, {**chosen, (hand, at): output}))
-    return (word, hand, at, told)
+    for output, each in zip(task.alone[hand][at], tree[2]):
+        told.append(written(task, away, most, each, {**chosen, (hand, at): output}, marks))
+    return ("choose", hand, at, told)
 
 
 def bar(task, *, rounds=None):
     """Tell a bar for so many rounds, left out for all, None where there is a protocol."""
     most = most_ties(rounds)
     away = aways(task)
-    tree = Search(task, away, most).begun()[1]
-    return None if tree is None else written(task, away, most, tree, {})
+    tree = searched(task, away, most)[1]
+    return None if tree is None else written(task, away, most, tree, {}, {})
 
 
 def is_word(thing, word):
@@ -152,86 +175,104 @@ def is_word(thing, word):
 
 def is_branch(task, thing):
     """Whether this chooses at an input, with as many things in it as outputs are let alone for it."""
-    return (
-        isinstance(thing, tuple)
-        and len(thing) == 4
-        and is_word(thing[0], "choose")
-        and is_hand(thing[1])
-        and is_whole_within(thing[2], 0, task.inputs(thing[1]) - 1)
-        and isinstance(thing[3], list)
-        and len(thing[3]) == len(task.alone[thing[1]][thing[2]])
-    )
-
-
-def is_mark(thing):
-    return isinstance(thing, tuple) and len(thing) == 3 and all([is_whole(x) for x in thing])
-
-
-def is_leaf(task, thing):
-    """Whether this has a pair, and one mark for each point of its web, sorted."""
-    return (
-        isinstance(thing, tuple)
-        and len(thing) == 3
-        and is_word(thing[0], "apart")
-        and is_pair(task, thing[1])
-        and isinstance(thing[2], list)
-        and all([is_mark(mark) for mark in thing[2]])
-        and [mark[:2] for mark in thing[2]] == sorted(ties_of(task.both[thing[1]]))
-    )
-
-
-def is_tree(task, thing):
-    """Whether this has the form of a bar as far down as it goes."""
-    # Not by recursion: a thing may go down further than that can.
-    left = [[thing]]
-    while left:
-        if len(left) > MOST_DEPTH:
-            return False
-        if not left[-1]:
-            left.pop()
-        else:
-            tree = left[-1].pop()
-            if is_branch(task, tree):
-                left.append(list(tree[3]))
-            elif not is_leaf(task, tree):
-                return False
-    return True
-
-
-def is_apart(task, most, chosen, leaf):
-    """Whether this leaf shows that what was chosen on the way can't stand together."""
-    pair, marks = leaf[1], leaf[2]
-    if (0, pair[0]) not in chosen or (1, pair[1]) not in chosen:
+    if not isinstance(thing, tuple) or len(thing) != 4 or not is_word(thing[0], "choose") or not is_hand(thing[1]):
         return False
-    numbers = {(hand, output): number for hand, output, number in marks}
-    first, last = (0, chosen[(0, pair[0])]), (1, chosen[(1, pair[1])])
-    if first not in numbers or last not in numbers:
+    rows = task.alone[thing[1]]
+    return (
+        is_whole_within(thing[2], 0, len(rows) - 1)
+        and isinstance(thing[3], list)
+        and len(thing[3]) == len(rows[thing[2]])
+    )
+
+
+def is_marks(thing, points):
+    """Whether this has one mark for each of these points, in their order."""
+    return (
+        isinstance(thing, list)
+        and all([isinstance(mark, tuple) and len(mark) == 3 for mark in thing])
+        and all([is_whole(x) for mark in thing for x in mark])
+        and [mark[:2] for mark in thing] == points
+    )
+
+
+class Faults:
+    """Looks for the faults of anything as a bar of this task."""
+
+    def __init__(self, task, most):
+        self.task = task
+        self.most = most
+        self.points = {pair: sorted(ties_of(let)) for pair, let in task.both.items()}
+
+    def is_leaf(self, thing):
+        """Whether this has a pair, and one mark for each point of its web, sorted."""
+        return (
+            isinstance(thing, tuple)
+            and len(thing) == 3
+            and is_word(thing[0], "apart")
+            and is_pair(self.task, thing[1])
+            and is_marks(thing[2], self.points[thing[1]])
+        )
+
+    def is_formed(self, thing):
+        """Whether this has the form of a bar as far down as it goes, or as this looks."""
+        # Not by recursion, since a thing may go down further than that can; and the last tree of
+        # a row first, since first_in goes the other way round.
+        rows, left = [[thing]], [1]
+        for look in range(MOST_LOOKS):
+            if not rows:
+                break
+            left[-1] -= 1
+            tree = rows[-1][left[-1]]
+            if left[-1] == 0:
+                rows.pop()
+                left.pop()
+            if is_branch(self.task, tree):
+                rows.append(tree[3])
+                left.append(len(tree[3]))
+            elif not self.is_leaf(tree):
+                return False
         return True
-    widest = max([abs(numbers[(0, x)] - numbers[(1, y)]) for x, y in task.both[pair]])
-    gap = numbers[last] - numbers[first]
-    if most is None:
-        return widest == 0 and gap != 0
-    return widest <= 1 and gap > most
 
+    def is_apart(self, chosen, leaf):
+        """Whether this leaf shows that what was chosen on the way can't stand together."""
+        pair, marks = leaf[1], leaf[2]
+        if (0, pair[0]) not in chosen or (1, pair[1]) not in chosen:
+            return False
+        numbers = {(hand, output): number for hand, output, number in marks}
+        first, last = (0, chosen[(0, pair[0])]), (1, chosen[(1, pair[1])])
+        if first not in numbers or last not in numbers:
+            return True
+        widest = max([abs(numbers[(0, x)] - numbers[(1, y)]) for x, y in self.task.both[pair]])
+        gap = numbers[last] - numbers[first]
+        if self.most is None:
+            return widest == 0 and gap != 0
+        return widest <= 1 and gap > self.most
 
-def tree_fault(task, most, tree, chosen, path):
-    """Tell the first fault of this tree, each ahead of those in it, None where there is none."""
-    if tree[0] == "apart":
-        return None if is_apart(task, most, chosen, tree) else ("apart", path)
-    spot = (tree[1], tree[2])
-    if spot in chosen:
-        return ("choose", path)
-    outputs = task.alone[spot[0]][spot[1]]
-    for at in range(len(outputs)):
-        fault = tree_fault(task, most, tree[3][at], {**chosen, spot: outputs[at]}, [*path, at])
-        if fault is not None:
-            return fault
-    return None
+    def first_in(self, tree, chosen, path):
+        """Tell the first fault of this tree, each ahead of those in it, None where there is none.
+
+        It goes down no further than there are inputs, since none is chosen twice without a fault.
+        """
+        if not is_branch(self.task, tree):
+            if not self.is_leaf(tree):
+                return ("form",)
+            return None if self.is_apart(chosen, tree) else ("apart", path)
+        spot = (tree[1], tree[2])
+        if spot in chosen:
+            return ("choose", path)
+        outputs = self.task.alone[spot[0]][spot[1]]
+        for at in range(len(outputs)):
+            fault = self.first_in(tree[3][at], {**chosen, spot: outputs[at]}, [*path, at])
+            if fault is not None:
+                return fault
+        return None
 
 
 def bar_fault(task, thing, *, rounds=None):
     """Tell the first fault of anything as a bar for so many rounds, left out for all, None where it has none."""
-    most = most_ties(rounds)
-    if not is_tree(task, thing):
+    faults = Faults(task, most_ties(rounds))
+    fault = faults.first_in(thing, {}, [])
+    # One of the form is told ahead of any other, wherever it stands.
+    if fault not in (None, ("form",)) and not faults.is_formed(thing):
         return ("form",)
-    return tree_fault(task, most, thing, {}, [])
+    return fault
