@@ -3,7 +3,7 @@ import unittest
 from unittest import mock
 
 from tests.things import choices, no_rounds, odd_things, row_task, tasks
-from twoalone.bars import bar, bar_fault
+from twoalone.bars import Faults, bar, bar_fault
 from twoalone.errors import NoRounds
 from twoalone.tasks import Task, agreement, apart, joint, near, swapped
 from twoalone.webs import far
@@ -327,6 +327,72 @@ class BarFault(unittest.TestCase):
         self.assertEqual(bar_fault(forked(), leaves[0]), ("choose", [0]))
         leaves[1] = None
         self.assertEqual(bar_fault(forked(), leaves[0]), ("form",))
+
+    def test_form_beside_a_thing_that_holds_itself(self):
+        task = Task([[[0, 1, 2]], [[0]]], {(0, 0): [(0, 0)]})
+        leaf = ("apart", (0, 0), [(0, 0, 0), (1, 0, 0)])
+        for at in range(3):
+            # Two of the three are the whole itself, and the third one goes down to what may be no tree.
+            trees = []
+            whole = ("choose", 0, 0, trees)
+            for times in (0, 1, 40, 5000):
+                for end in (leaf, None, ("choose", 1, 0, [leaf, leaf])):
+                    tree = end
+                    for count in range(times):
+                        tree = ("choose", 1, 0, [tree])
+                    trees[:] = [whole, whole, whole]
+                    trees[at] = tree
+                    first = ("choose", [0, 0]) if times > 1 else ("apart", [0] * (times + 1))
+                    want = ("form",) if end != leaf else first if at == 0 else ("choose", [0])
+                    self.assertEqual(bar_fault(task, whole), want)
+
+    def test_form_below_millions(self):
+        tree = None
+        for count in range(3100000):
+            tree = ("choose", 0, 0, [tree])
+        self.assertEqual(bar_fault(agreement(), tree), ("form",))
+
+    def test_form_of_a_list_met_again(self):
+        leaf = ("apart", (0, 1), [(hand, x, 0) for hand in (0, 1) for x in range(3)])
+        shared = [leaf]
+        far_down = ("choose", 1, 0, shared)
+        for count in range(150000):
+            far_down = ("choose", 1, 0, [far_down])
+        # The list is looked through at the end of what goes far down, and then met again beside it.
+        for tree, fault in [
+            (("choose", 1, 1, shared), ("apart", [0, 0])),
+            (("choose", 1, 0, shared), ("apart", [0, 0])),
+            (("choose", 0, 0, [leaf, ("choose", 1, 0, shared)]), ("choose", [0])),
+            (("choose", 0, 0, shared), ("form",)),
+            (("choose", 1, 0, [leaf, *shared]), ("form",)),
+            (("choose", 0, 0, [("choose", 1, 0, shared), leaf, leaf]), ("form",)),
+            (("apart", (0, 0), shared), ("form",)),
+            (("apart", (0, 1), shared), ("form",)),
+        ]:
+            self.assertEqual(bar_fault(forked(), ("choose", 0, 0, [tree, far_down])), fault)
+
+    def test_things_that_go_far_down_are_not_changed(self):
+        for end in (("apart", PAIR, marks()), None):
+            rows, tree = [], end
+            for count in range(150000):
+                rows.append([tree])
+                tree = ("choose", 0, 0, rows[-1])
+            circle = []
+            circle.append(("choose", 1, 1, circle))
+            kept = [row[0] for row in rows]
+            for thing in (tree, circle[0]):
+                bar_fault(agreement(), thing)
+            self.assertEqual([len(row) for row in rows], [1] * 150000)
+            self.assertTrue(all([row[0] is each for row, each in zip(rows, kept)]))
+            self.assertEqual(len(circle), 1)
+            self.assertTrue(circle[0][3] is circle)
+
+    def test_what_tags_lists_is_no_tree(self):
+        leaf = ("apart", (0, 0), [(hand, x, 0) for hand in (0, 1) for x in range(3)])
+        for tag in (Faults(forked(), None), mock.ANY):
+            for trees in ([leaf, leaf, tag], [leaf, tag], [tag, leaf], [tag]):
+                self.assertEqual(bar_fault(forked(), ("choose", 0, 0, trees)), ("form",))
+                self.assertEqual(bar_fault(forked(), ("choose", 1, 0, [("choose", 1, 0, trees)])), ("form",))
 
     def test_a_thing_that_holds_another_one_often(self):
         task = Task([[[0, 1], [1]], [[0], [1]]], {(0, 0): [(0, 0)], (1, 1): [(1, 1)]})

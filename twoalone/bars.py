@@ -12,8 +12,8 @@ from twoalone.tasks import is_pair
 from twoalone.weavings import MOST_ROUNDS
 from twoalone.webs import distances, ties_of
 
-# A thing that holds itself has no end: behind so many trees of the right form the others are taken to have it, too.
-MOST_LOOKS = 3000000
+# Lists of trees are tagged only behind so many, so that those of a thing of common size are not touched at all.
+MOST_UNTAGGED = 100000
 
 
 def most_ties(rounds):
@@ -173,18 +173,6 @@ def is_word(thing, word):
     return isinstance(thing, str) and thing == word
 
 
-def is_branch(task, thing):
-    """Whether this chooses at an input, with as many things in it as outputs are let alone for it."""
-    if not isinstance(thing, tuple) or len(thing) != 4 or not is_word(thing[0], "choose") or not is_hand(thing[1]):
-        return False
-    rows = task.alone[thing[1]]
-    return (
-        is_whole_within(thing[2], 0, len(rows) - 1)
-        and isinstance(thing[3], list)
-        and len(thing[3]) == len(rows[thing[2]])
-    )
-
-
 def is_marks(thing, points):
     """Whether this has one mark for each of these points, in their order."""
     return (
@@ -213,24 +201,53 @@ class Faults:
             and is_marks(thing[2], self.points[thing[1]])
         )
 
+    def is_tagged(self, trees):
+        """Whether this list was looked through: then the last of it is this object."""
+        return isinstance(trees[-1], Faults) and trees[-1] == self
+
+    def is_branch(self, thing):
+        """Whether this chooses at an input, with as many things in it as outputs are let alone for it."""
+        if not isinstance(thing, tuple) or len(thing) != 4 or not is_word(thing[0], "choose") or not is_hand(thing[1]):
+            return False
+        rows = self.task.alone[thing[1]]
+        if not is_whole_within(thing[2], 0, len(rows) - 1) or not isinstance(thing[3], list) or not thing[3]:
+            return False
+        return len(thing[3]) == len(rows[thing[2]]) + int(self.is_tagged(thing[3]))
+
     def is_formed(self, thing):
-        """Whether this has the form of a bar as far down as it goes, or as this looks."""
+        """Whether this has the form of a bar as far down as it goes."""
+        tagged = []
+        formed = self.looked_through(thing, tagged)
+        for trees in tagged:
+            trees.pop()
+        return formed
+
+    def looked_through(self, thing, tagged):
+        """Tell whether all trees of this have the form; put the lists that got a tag, at their end, into tagged.
+
+        Without tags, one that holds itself would have no end, and one that holds another one
+        often would be gone through as often. Whoever asks takes the tags off again.
+        """
         # Not by recursion, since a thing may go down further than that can; and the last tree of
         # a row first, since first_in goes the other way round.
-        rows, left = [[thing]], [1]
-        for look in range(MOST_LOOKS):
-            if not rows:
-                break
+        rows, left, looked = [[thing]], [1], 0
+        while rows:
             left[-1] -= 1
             tree = rows[-1][left[-1]]
             if left[-1] == 0:
                 rows.pop()
                 left.pop()
-            if is_branch(self.task, tree):
-                rows.append(tree[3])
-                left.append(len(tree[3]))
-            elif not self.is_leaf(tree):
-                return False
+            if not self.is_branch(tree):
+                if not self.is_leaf(tree):
+                    return False
+            elif not self.is_tagged(tree[3]):
+                trees = tree[3]
+                rows.append(trees)
+                left.append(len(trees))
+                looked += 1
+                if looked > MOST_UNTAGGED:
+                    trees.append(self)
+                    tagged.append(trees)
         return True
 
     def is_apart(self, chosen, leaf):
@@ -253,7 +270,7 @@ class Faults:
 
         It goes down no further than there are inputs, since none is chosen twice without a fault.
         """
-        if not is_branch(self.task, tree):
+        if not self.is_branch(tree):
             if not self.is_leaf(tree):
                 return ("form",)
             return None if self.is_apart(chosen, tree) else ("apart", path)
